@@ -1,0 +1,1 @@
+"""Formulas of the past, watched with a fixed number of cells."""
