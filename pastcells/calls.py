@@ -4,10 +4,12 @@ A call's function takes the object and the call's arguments as one list, and ans
 what the call answers, or a refusal's number alone.
 """
 
+from pastcells.form import form_of
 from pastcells.formula import cell_count, comparisons_of, horizon
 from pastcells.grammar import WrongWord, nodes_of
-from pastcells.letters import LEAST_READING, MOST_READING, letter_count
+from pastcells.letters import LEAST_READING, MOST_READING, READING_COUNT, all_letters, letter_count
 from pastcells.meaning import truth_at_end
+from pastcells.search import searched
 from pastcells.watcher import cell_row, new_cells, worked
 from pastcells.words import words_of
 
@@ -17,6 +19,8 @@ MOST_STEPS = 200
 MOST_SIZE = 40
 MOST_CELLS = 100
 MOST_COMPARISONS = 16
+MOST_LETTERS = 27
+MOST_BUDGET = 200
 
 OUT_OF_RANGE = -1
 # The refusals -3 to -6 mean something else in each call: its promise tells what.
@@ -43,6 +47,10 @@ def is_formula_number(number):
 
 def is_step_number(number):
     return 1 <= number <= MOST_STEPS
+
+
+def is_budget(number):
+    return 1 <= number <= MOST_BUDGET
 
 
 def define(watch, text):
@@ -117,7 +125,92 @@ def facts(watch, numbers):
     return [len(nodes), cell_count(nodes), horizon(nodes), len(unlike), letter_count(unlike)]
 
 
-CALLS = {0: define, 1: step, 2: now, 3: meaning, 4: cells, 5: facts}
+def form(watch, numbers):
+    formula = numbers[0]
+    if not is_formula_number(formula):
+        return [OUT_OF_RANGE]
+    if formula >= len(watch.formulas):
+        return [-3]
+    told = form_of(watch.formulas[formula])
+    return [len(told)] + [ord(sign) for sign in told]
+
+
+def atom(watch, numbers):
+    comparison = numbers[0]
+    if not 0 <= comparison < MOST_COMPARISONS:
+        return [OUT_OF_RANGE]
+    if comparison >= len(watch.comparisons):
+        return [-3]
+    return list(watch.comparisons[comparison])
+
+
+def alike(watch, numbers):
+    formula = numbers[0]
+    other = numbers[1]
+    budget = numbers[2]
+    if not is_formula_number(formula) or not is_formula_number(other) or not is_budget(budget):
+        return [OUT_OF_RANGE]
+    if max(formula, other) >= len(watch.formulas):
+        return [-3]
+    return search(watch.formulas[formula], watch.formulas[other], budget, differ)
+
+
+def ever(watch, numbers):
+    formula = numbers[0]
+    budget = numbers[1]
+    if not is_formula_number(formula) or not is_budget(budget):
+        return [OUT_OF_RANGE]
+    if formula >= len(watch.formulas):
+        return [-3]
+    return search(watch.formulas[formula], nodes_of(["true"]), budget, first_is_so)
+
+
+def differ(truth, other):
+    return truth != other
+
+
+def first_is_so(truth, other):
+    return truth == 1
+
+
+# What alike and ever have in common: the search, unless there are too many letters for it.
+def search(nodes, others, budget, is_wanted):
+    comparisons = comparisons_of(nodes) + comparisons_of(others)
+    if letter_count(comparisons) > MOST_LETTERS:
+        return [-5]
+    return searched(nodes, others, all_letters(comparisons), budget, is_wanted)
+
+
+def reading(watch, numbers):
+    number = numbers[0]
+    if not is_step_number(number):
+        return [OUT_OF_RANGE]
+    if number > len(watch.history):
+        return [-3]
+    return [READING_COUNT] + watch.history[number - 1]
+
+
+def again(watch, nothing):
+    watch.history = []
+    watch.cells = [new_cells(nodes) for nodes in watch.formulas]
+    watch.truths = [0] * len(watch.formulas)
+    return [0]
+
+
+CALLS = {
+    0: define,
+    1: step,
+    2: now,
+    3: meaning,
+    4: cells,
+    5: facts,
+    6: form,
+    7: atom,
+    8: alike,
+    9: ever,
+    10: reading,
+    11: again,
+}
 
 
 # What the call of this number answers.

@@ -5,6 +5,8 @@ Going through the list once, from its beginning, meets every part ahead of what 
 """
 
 COMPARE = "compare"
+# The operators of comparisons, in the order of their numbers.
+OPERATORS = ("<", "<=", "=", "!=", ">=", ">")
 WINDOWED = ("once", "always", "since")
 NO_END = -1
 

@@ -1,13 +1,12 @@
 """From the words of a text to a formula's nodes, or to the wrong word."""
 
-from pastcells.formula import COMPARE, NO_END, WINDOWED, Node, own_width
+from pastcells.formula import COMPARE, NO_END, OPERATORS, WINDOWED, Node, own_width
 from pastcells.words import number_of, signed_number_of
 
 DEEPEST = 40
 MOST_BACK = 60
 MOST_COMPARED = 1000000
 READINGS = {"x0": 0, "x1": 1, "x2": 2, "x3": 3, "x4": 4, "x5": 5, "x6": 6, "x7": 7}
-COMPARING = {"<": 0, "<=": 1, "=": 2, "!=": 3, ">=": 4, ">": 5}
 HOLDING = ("(", "not", "prev", "rose", "once", "always", "count", "since")
 
 
@@ -103,8 +102,8 @@ def read_unit(reader, depth):
 def read_comparison(reader):
     reading = READINGS[reader.ahead()]
     reader.take()
-    reader.need(reader.ahead() in COMPARING)
-    operator = COMPARING[reader.ahead()]
+    reader.need(reader.ahead() in OPERATORS)
+    operator = OPERATORS.index(reader.ahead())
     reader.take()
     number = signed_number_of(reader.ahead())
     reader.need(number is not None and abs(number) <= MOST_COMPARED)

@@ -20,6 +20,23 @@ def samples(reading, comparisons):
     return found
 
 
+# The letters for some comparisons, in their order.
+def all_letters(comparisons):
+    rows = [[]]
+    for reading in range(READING_COUNT):
+        rows = lengthened(rows, samples(reading, comparisons))
+    return rows
+
+
+# Each row with each of the numbers put behind it.
+def lengthened(rows, numbers):
+    longer = []
+    for row in rows:
+        for number in numbers:
+            longer.append(row + [number])
+    return longer
+
+
 # How many letters there are for some comparisons (far too many, maybe, to write them all down).
 def letter_count(comparisons):
     product = 1

@@ -4,7 +4,7 @@ from pastcells.calls import Watch, answer_to
 
 DEFINE = 0
 # How many numbers a call has behind its own; define's text has its length ahead.
-ARGUMENTS = {1: 8, 2: 0, 3: 2, 4: 1, 5: 1}
+ARGUMENTS = {1: 8, 2: 0, 3: 2, 4: 1, 5: 1, 6: 1, 7: 1, 8: 3, 9: 2, 10: 1, 11: 0}
 
 
 # For each of the calls in the list: how many numbers are answered, then these.

@@ -1,6 +1,6 @@
 """A formula's watcher: a fixed number of cells, worked on once a step.
 
-Its cells are kept as a list with a tuple for each node of the formula: that node's own cells.
+Its cells are kept as a tuple with a tuple for each node of the formula: that node's own cells.
 """
 
 from pastcells.formula import NO_END, cell_count
@@ -9,7 +9,7 @@ from pastcells.plain import plain_truth
 
 # The cells before the first step.
 def new_cells(nodes):
-    return [(0,) * node.width for node in nodes]
+    return tuple([(0,) * node.width for node in nodes])
 
 
 # All cells in one list, in the order of the operators in the text.
@@ -98,4 +98,4 @@ def worked(nodes, cells, readings):
             done = (plain_truth(node, parts, readings), own)
         truths.append(done[0])
         after.append(done[1])
-    return (truths[-1], after)
+    return (truths[-1], tuple(after))

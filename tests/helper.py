@@ -6,6 +6,8 @@ where the window has no end, ("count", k, n, f). What is told of trees here is t
 on meaning, on sizes and on what the cells say, and shares nothing with the program.
 """
 
+import math
+
 from pastcells.watch import answers
 
 OPERATORS = ("<", "<=", "=", "!=", ">=", ">")
@@ -38,6 +40,29 @@ def cells(f):
 
 def facts(f):
     return [5, f]
+
+
+def form(f):
+    return [6, f]
+
+
+def atom(i):
+    return [7, i]
+
+
+def alike(f, g, budget=200):
+    return [8, f, g, budget]
+
+
+def ever(f, budget=200):
+    return [9, f, budget]
+
+
+def reading(i):
+    return [10, i]
+
+
+AGAIN = [11]
 
 
 def run(*calls):
@@ -105,21 +130,27 @@ def horizon(tree):
     return own + max(below, default=0)
 
 
-def letter_count(tree):
+def samples(numbers):
     """By trying which of all the readings near the numbers are samples."""
-    product = 1
-    for reading in range(8):
-        numbers = {node[3] for node in comparisons(tree) if node[1] == reading}
-        near = {number + d for number in numbers for d in (-1, 0, 1)}
-        samples = []
-        for value in sorted(near):
-            above_all = all(number < value for number in numbers)
-            below_all = all(value < number for number in numbers)
-            is_sample = value in numbers or above_all or below_all or value - 1 in numbers
-            if LEAST <= value <= MOST and is_sample:
-                samples.append(value)
-        product *= max(1, len(samples))
-    return product
+    near = {number + d for number in numbers for d in (-1, 0, 1)}
+    found = []
+    for value in sorted(near):
+        above_all = all(number < value for number in numbers)
+        below_all = all(value < number for number in numbers)
+        is_sample = value in numbers or above_all or below_all or value - 1 in numbers
+        if LEAST <= value <= MOST and is_sample:
+            found.append(value)
+    return found or [0]
+
+
+def sample_rows(*trees):
+    """The samples of each reading, for the comparisons of all the trees."""
+    compared = [node for tree in trees for node in comparisons(tree)]
+    return [samples({node[3] for node in compared if node[1] == place}) for place in range(8)]
+
+
+def letter_count(*trees):
+    return math.prod(len(row) for row in sample_rows(*trees))
 
 
 class Told:
@@ -255,3 +286,48 @@ def words(tree, place="formula"):
 
 def text(tree):
     return " ".join(words(tree))
+
+
+def loose_number(chance, number, may_be_signed=False):
+    sign = "-" if number < 0 or (number == 0 and may_be_signed and chance.random() < 0.3) else ""
+    return sign + str(abs(number)).zfill(chance.choice((1, 1, 2, 7)))
+
+
+def loose_words(chance, tree, place="formula"):
+    """As words, but with needless brackets, zeros, signs and windows, here and there."""
+    if chance.random() < 0.2:
+        return ["("] + loose_words(chance, tree) + [")"]
+    kind = tree[0]
+    if kind in ("true", "false"):
+        return [kind]
+    if kind == "compare":
+        return ["x%d" % tree[1], OPERATORS[tree[2]], loose_number(chance, tree[3], True)]
+    if kind in ("and", "or"):
+        left, right = ("unit", "conjunction") if kind == "and" else ("conjunction", "formula")
+        found = loose_words(chance, tree[1], left) + [kind] + loose_words(chance, tree[2], right)
+        fits = place == "formula" or (place == "conjunction" and kind == "and")
+        return found if fits else ["("] + found + [")"]
+    if kind == "count":
+        numbers = [loose_number(chance, number) for number in tree[1:3]]
+        return [kind] + numbers + loose_words(chance, tree[3], "unit")
+    if kind in ("once", "always", "since"):
+        numbers = [loose_number(chance, number) for number in tree[1:3] if number is not None]
+        window = ["[", numbers[0], ","] + numbers[1:] + ["]"]
+        if (tree[1], tree[2]) == (0, None) and chance.random() < 0.5:
+            window = []
+        if kind == "since":
+            held = ["("] + loose_words(chance, tree[3]) + [","] + loose_words(chance, tree[4]) + [")"]
+        else:
+            held = loose_words(chance, tree[3], "unit")
+        return [kind] + window + held
+    return [kind] + loose_words(chance, tree[1], "unit")
+
+
+def loose_text(chance, tree):
+    """A text of the tree with more or fewer blanks and line feeds than are usual."""
+    row = loose_words(chance, tree)
+    found = chance.choice(("", " ", "\n"))
+    for word, later in zip(row, row[1:] + ["("]):
+        may_touch = word in "()[]," or later in "()[],"
+        found += word + chance.choice((" ", " ", "\n", " \n ", "" if may_touch else " "))
+    return found
